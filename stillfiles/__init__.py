@@ -1,0 +1,1 @@
+"""Stillfiles: tables kept as files that never change."""
