@@ -8,6 +8,11 @@ FUNCTIONS = {
     "worths": ("is_name(thing)", "is_worth(thing)", "fits(kind, thing)", "is_wider(kind, other)", "rising(rows)"),
     "shapes": ("is_shape(thing)", "is_row(shape, thing)", "read_by(shape, other, row)",
                "reshaped(shape, next_number, changes)"),
+    "conditions": ("bound(shape, where)", "meets(test, worth)"),
+    "spans": ("span_of(number, worths)", "may_meet(span, test)"),
+    "parts": ("bound_rule(shape, rule)", "part_of(shape, rule, row)", "part_may(rule, part, test)"),
+    "contents": ("is_file(thing, *, letter=None)", "is_content(thing)"),
+    "contenttexts": ("show_content(content)", "read_content(text)"),
 }
 
 

@@ -95,6 +95,15 @@ class Trees(unittest.TestCase):
             self.assertEqual(len(bound), len(set(bound)), name)
 
 
+    def test_tables_hold_plain_values_and_functions_of_their_file(self):
+        for name, tree in TREES.items():
+            own = {node.name for node in tree.body if isinstance(node, ast.FunctionDef)}
+            for node in tree.body:
+                if isinstance(node, ast.Assign):
+                    told = {part.id for part in ast.walk(node.value) if isinstance(part, ast.Name)}
+                    self.assertLessEqual(told, own, name)
+
+
 class Imports(unittest.TestCase):
     def test_they_name_files_of_the_package(self):
         self.assertEqual(list(nodes(ast.Import)), [])

@@ -218,7 +218,7 @@ class Refused(unittest.TestCase):
                        ("add", "a", "sign", ""), ("out",), ("out", ""), ("out", "name", "name"), ("name", "name"),
                        ("name", "name", ""), ("name", "name", "abcdefg"), ("name", 1, "a"), ("widen", "name"),
                        ("widen", "name", "wide"), ("widen", "name", None), ("widen", "name", "word", ""),
-                       ("drop", "name"), ("Out", "name"), ("name",), ("add",), ("widen",), ["out", "name"]):
+                       ("drop", "name"), ("Out", "name"), ("wide", "many", "whole"), ("", "many", "whole"), ("name",), ("add",), ("widen",), ["out", "name"]):
             self.refused(NoChange, "place", 0, FRUIT, (change,))
             self.refused(NoChange, "place", 2, FRUIT, (("out", "name"), ("out", "many"), change, change))
 

@@ -1,0 +1,41 @@
+"""Tests and conditions, and which worths meet a test (promise 7)."""
+
+from stillfiles.errors import NoColumn, NoCond
+from stillfiles.worths import are_of_one_sort, is_name, is_worth
+
+WORDS = ("is", "below", "from")
+TESTS_MOST = 4
+
+
+def is_test(thing):
+    if not isinstance(thing, tuple) or len(thing) != 3:
+        return False
+    name, word, worth = thing
+    return is_name(name) and word in WORDS and is_worth(worth)
+
+
+def is_condition(thing):
+    if not isinstance(thing, tuple) or len(thing) > TESTS_MOST:
+        return False
+    return all([is_test(test) for test in thing])
+
+
+def bound(shape, where):
+    if not is_condition(where):
+        raise NoCond()
+    numbers = {column[1]: column[0] for column in shape}
+    for test in where:
+        if test[0] not in numbers:
+            raise NoColumn(test[0])
+    return tuple([(numbers[name], word, worth) for name, word, worth in where])
+
+
+def meets(test, worth):
+    word, bar = test[1], test[2]
+    if word == "is":
+        return worth == bar
+    if not are_of_one_sort(worth, bar):
+        return False
+    if word == "below":
+        return worth < bar
+    return worth >= bar

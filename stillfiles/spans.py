@@ -1,0 +1,29 @@
+"""Spans of a column's worths, and which tests a span may meet (promise 8)."""
+
+from stillfiles.worths import are_of_one_sort, worth_order
+
+
+def span_of(number, worths):
+    told = [worth for worth in worths if worth is not None]
+    least = min(told, key=worth_order, default=None)
+    greatest = max(told, key=worth_order, default=None)
+    return (number, least, greatest, len(worths) - len(told))
+
+
+def may_meet(span, test):
+    """Of a span, or of a whole one: it begins with the same four."""
+    least, greatest, blanks = span[1], span[2], span[3]
+    word, bar = test[1], test[2]
+    if word == "is" and bar is None:
+        return blanks > 0
+    if not are_of_one_sort(least, bar):
+        return False
+    if word == "is":
+        return stand_so(least, bar) and stand_so(bar, greatest)
+    if word == "below":
+        return not stand_so(bar, least)
+    return stand_so(bar, greatest)
+
+
+def stand_so(worth, other):
+    return worth_order(worth) <= worth_order(other)
