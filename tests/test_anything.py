@@ -1,0 +1,83 @@
+"""Promise 2: what is of anything is answered, told the same again, and leaves what is handed in as it was."""
+
+import copy
+import unittest
+
+from right_contents import DATA, HEAD, LIST, RIGHT, paths_of, at_place, with_place
+from stillfiles.conditions import bound
+from stillfiles.contents import is_content, is_file
+from stillfiles.contenttexts import read_content, show_content
+from stillfiles.errors import StillError
+from stillfiles.parts import bound_rule
+from stillfiles.shapes import is_row, is_shape, reshaped
+from stillfiles.worths import fits, is_name, is_worth
+from things import ANYTHING
+
+SHAPE = ((1, "a", "small", 1), (2, "b", "word", ""))
+ASKED = (
+    is_name, is_worth, is_shape, is_file, is_content,
+    lambda thing: fits("small", thing), lambda thing: fits("word", thing), lambda thing: is_row(SHAPE, thing),
+    lambda thing: is_file(thing, letter="d"), lambda thing: reshaped(SHAPE, 3, thing),
+    lambda thing: bound(SHAPE, thing), lambda thing: bound_rule(SHAPE, thing), read_content,
+)
+
+
+def told(function, thing):
+    """What a function tells of a thing, or the refusal as a text."""
+    try:
+        return repr(function(thing))
+    except StillError as error:
+        return repr((error.__class__.__name__, vars(error)))
+
+
+class OfAnything(unittest.TestCase):
+    def test_it_is_answered_the_same_and_left_as_it_was(self):
+        for function in ASKED:
+            for thing in (*ANYTHING, *RIGHT):
+                before = copy.deepcopy(thing)
+                first = told(function, thing)
+                self.assertEqual(told(function, thing), first)
+                self.assertEqual(repr(thing), repr(before))
+
+    def test_contents_with_lists_and_dicts_in_them_are_left_as_they_were(self):
+        for content in (DATA, LIST, HEAD):
+            for path in paths_of(content):
+                thing = with_place(content, path, [at_place(content, path), {}])
+                before = copy.deepcopy(thing)
+                self.assertIs(is_content(thing), False)
+                self.assertEqual(thing, before)
+
+
+class Truths(unittest.TestCase):
+    def test_a_truth_is_taken_for_a_whole_number_nowhere(self):
+        for truth in (True, False):
+            self.assertIs(is_worth(truth), False)
+            for kind in ("small", "whole", "sign", "word"):
+                self.assertIs(fits(kind, truth), False)
+            self.assertIs(is_row(SHAPE, (truth, "")), False)
+            self.assertIs(is_shape(((truth, "a", "small", 1),)), False)
+            self.assertIs(is_shape(((1, "a", "small", truth),)), False)
+            self.assertEqual(told(lambda thing: reshaped(SHAPE, 3, thing), (("add", "c", "small", truth),)),
+                             "('NoChange', {'place': 0})")
+            for word in ("is", "below", "from"):
+                self.assertEqual(told(lambda thing: bound(SHAPE, thing), (("a", word, truth),)), "('NoCond', {})")
+            for word in ("range", "rest"):
+                self.assertEqual(told(lambda thing: bound_rule(SHAPE, thing), (("a", (word, truth)),)), "('NoRule', {})")
+            for content in RIGHT:
+                for path in paths_of(content):
+                    self.assertIs(is_content(with_place(content, path, truth)), False)
+
+
+class Large(unittest.TestCase):
+    def test_contents_are_free_of_the_other_bounds(self):
+        columns = tuple((10 ** 30 + k, "abcdefgh"[k], "word", None) for k in range(8))
+        head = ("head", "a", (columns,) * 1_000, ((),) * 500, 10 ** 31,
+                tuple((k, "put", None, k, 5_000, "s7", k % 1_000, k % 500) for k in range(2_000)), (), ())
+        self.assertIs(is_content(head), True)
+        self.assertEqual(read_content(show_content(head)), head)
+        self.assertIs(is_content(with_place(head, (2, 999, 7, 0), 1)), True)
+        self.assertIs(is_content(with_place(head, (2, 998, 7, 0), 1)), False)
+
+
+if __name__ == "__main__":
+    unittest.main()
