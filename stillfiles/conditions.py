@@ -39,3 +39,9 @@ def meets(test, worth):
     if word == "below":
         return worth < bar
     return worth >= bar
+
+
+def row_meets(shape, tests, row):
+    """Whether a row of a shape meets tests that are bound by it."""
+    worths = {column[0]: worth for column, worth in zip(shape, row)}
+    return all([meets(test, worths[test[0]]) for test in tests])

@@ -3,11 +3,18 @@
 from stillfiles.worths import are_of_one_sort, worth_order
 
 
+def least_of(worths):
+    """The least of the worths but None, as worths stand; None of none."""
+    return min([worth for worth in worths if worth is not None], key=worth_order, default=None)
+
+
+def greatest_of(worths):
+    return max([worth for worth in worths if worth is not None], key=worth_order, default=None)
+
+
 def span_of(number, worths):
-    told = [worth for worth in worths if worth is not None]
-    least = min(told, key=worth_order, default=None)
-    greatest = max(told, key=worth_order, default=None)
-    return (number, least, greatest, len(worths) - len(told))
+    blanks = [worth for worth in worths if worth is None]
+    return (number, least_of(worths), greatest_of(worths), len(blanks))
 
 
 def may_meet(span, test):

@@ -4,21 +4,43 @@ import copy
 import unittest
 
 from right_contents import DATA, HEAD, LIST, RIGHT, paths_of, at_place, with_place
+from hands import Hand
+from openings import shelf_of
 from stillfiles.conditions import bound
 from stillfiles.contents import is_content, is_file
 from stillfiles.contenttexts import read_content, show_content
-from stillfiles.errors import StillError
+from stillfiles.doings import did
+from stillfiles.errors import Missing, StillError
 from stillfiles.parts import bound_rule
+from stillfiles.planning import plan_of
+from stillfiles.reading import away, commit_of, entries_of, rows_of
 from stillfiles.shapes import is_row, is_shape, reshaped
+from stillfiles.shelves import Folder
 from stillfiles.worths import fits, is_name, is_worth
 from things import ANYTHING
 
 SHAPE = ((1, "a", "small", 1), (2, "b", "word", ""))
+
+
+def small_table():
+    hand = Hand((SHAPE,))
+    for number in range(3):
+        hand.commit(hand.list(hand.data(number, ((number, "a"),))))
+    return hand.folder(), hand.head(), shelf_of(hand.files)
+
+
+PLACE, TABLE, SHELF = small_table()
 ASKED = (
     is_name, is_worth, is_shape, is_file, is_content,
     lambda thing: fits("small", thing), lambda thing: fits("word", thing), lambda thing: is_row(SHAPE, thing),
     lambda thing: is_file(thing, letter="d"), lambda thing: reshaped(SHAPE, 3, thing),
     lambda thing: bound(SHAPE, thing), lambda thing: bound_rule(SHAPE, thing), read_content,
+    SHELF.has, SHELF.read, SHELF.written, SHELF.erase, SHELF.pointed, PLACE.has, PLACE.read,
+    lambda thing: Folder((("d1", thing),)).read("d1"),
+    lambda thing: commit_of(TABLE, thing), lambda thing: entries_of(PLACE, TABLE, thing),
+    lambda thing: did(PLACE, TABLE, thing), lambda thing: away(PLACE, TABLE, thing, "d1"),
+    lambda thing: rows_of(PLACE, TABLE, thing), lambda thing: rows_of(PLACE, TABLE, 1, where=thing),
+    lambda thing: plan_of(PLACE, TABLE, thing, ()), lambda thing: plan_of(PLACE, TABLE, 1, thing),
 )
 
 
@@ -26,7 +48,7 @@ def told(function, thing):
     """What a function tells of a thing, or the refusal as a text."""
     try:
         return repr(function(thing))
-    except StillError as error:
+    except (StillError, Missing) as error:
         return repr((error.__class__.__name__, vars(error)))
 
 

@@ -13,6 +13,20 @@ FUNCTIONS = {
     "parts": ("bound_rule(shape, rule)", "part_of(shape, rule, row)", "part_may(rule, part, test)"),
     "contents": ("is_file(thing, *, letter=None)", "is_content(thing)"),
     "contenttexts": ("show_content(content)", "read_content(text)"),
+    "listing": ("list_row(file, entries)",),
+    "reading": ("commit_of(head, number)", "entries_of(place, head, number)", "away(place, head, number, file)",
+                "rows_of(place, head, number, *, where=(), names=None, by=None)"),
+    "planning": ("plan_of(place, head, number, where)",),
+    "doings": ("did(place, head, number)",),
+}
+# What begins with a class's own name is how it is made, None of one that the interface doesn't tell how to make.
+CLASSES = {
+    "shelves": {
+        "Shelf": ("Shelf()", "write(kind, content)", "read(name)", "has(name)", "written(name)", "erase(name)",
+                  "names(*, by=None)", "swap(table, ahead, new)", "pointed(table)", "tables()", "moment()",
+                  "wait(many)", "opened()", "steps()", "trouble(step, word)", "__len__()"),
+        "Folder": ("Folder(files=())", "read(name)", "has(name)", "names(*, by=None)", "__len__()"),
+    },
 }
 
 
@@ -25,6 +39,26 @@ class Interface(unittest.TestCase):
                 self.assertTrue(inspect.isfunction(function), call)
                 self.assertEqual(function.__name__ + str(inspect.signature(function)), call)
                 self.assertEqual(function.__module__, "stillfiles." + file)
+
+    def test_classes(self):
+        for file, classes in CLASSES.items():
+            module = importlib.import_module("stillfiles." + file)
+            for name, told in classes.items():
+                made = getattr(module, name)
+                self.assertEqual((made.__module__, made.__bases__), ("stillfiles." + file, (object,)))
+                for call in told:
+                    self.check_call(made, call)
+
+    def check_call(self, made, call):
+        """A class is made as it is told, or has a method in its own body that is called so."""
+        called = call.partition("(")[0]
+        if called == made.__name__:
+            self.assertEqual(called + str(inspect.signature(made)), call)
+            return
+        self.assertIn(called, vars(made), made.__name__)
+        parameters = list(inspect.signature(vars(made)[called]).parameters.values())
+        self.assertEqual(parameters[0].name, "self")
+        self.assertEqual(called + str(inspect.Signature(parameters[1:])), call)
 
     def test_errors(self):
         module = importlib.import_module("stillfiles.errors")
