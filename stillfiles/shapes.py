@@ -1,6 +1,6 @@
 """Columns, shapes and rows (promise 5), and changes of a shape (promise 6)."""
 
-from stillfiles.errors import Full, Last, NoChange, NoColumn, NoFit, Taken
+from stillfiles.errors import Full, Last, NoChange, NoColumn, NoFit, NoShape, Taken, Used
 from stillfiles.wholes import all_unlike, is_from
 from stillfiles.worths import fits, is_kind, is_name, is_wider
 
@@ -21,6 +21,16 @@ def is_shape(thing):
     if not all([is_column(column) for column in thing]):
         return False
     return all_unlike([column[0] for column in thing]) and all_unlike([column[1] for column in thing])
+
+
+def numbered(columns):
+    """The shape that columns (name, kind, fill) are once they are numbered from 1."""
+    if not isinstance(columns, tuple) or not all([isinstance(column, tuple) for column in columns]):
+        raise NoShape()
+    shape = tuple([(number, *column) for number, column in enumerate(columns, start=1)])
+    if not is_shape(shape):
+        raise NoShape()
+    return shape
 
 
 def is_row(shape, thing):
@@ -64,13 +74,18 @@ def check_changes(changes):
 
 
 def reshaped(shape, next_number, changes):
+    return reshaped_by(shape, (), next_number, changes)
+
+
+def reshaped_by(shape, rule, next_number, changes):
+    """The same, where no column of a bound rule may go (promise 24)."""
     check_changes(changes)
     for change in changes:
         if change[0] == "add":
             shape = added(shape, next_number, change)
             next_number += 1
         elif change[0] == "out":
-            shape = left_out(shape, change[1])
+            shape = left_out(shape, rule, change[1])
         elif change[0] == "name":
             shape = renamed(shape, change[1], change[2])
         else:
@@ -87,9 +102,12 @@ def added(shape, number, change):
     return (*shape, (number, *change[1:]))
 
 
-def left_out(shape, name):
-    if column_called(shape, name) is None:
+def left_out(shape, rule, name):
+    column = column_called(shape, name)
+    if column is None:
         raise NoColumn(name)
+    if column[0] in [field[0] for field in rule]:
+        raise Used(name)
     if len(shape) == 1:
         raise Last()
     return tuple([column for column in shape if column[1] != name])

@@ -12,10 +12,12 @@ from stillfiles.contenttexts import read_content, show_content
 from stillfiles.doings import did
 from stillfiles.errors import Missing, StillError
 from stillfiles.parts import bound_rule
+from stillfiles.plain import Plain
 from stillfiles.planning import plan_of
 from stillfiles.reading import away, commit_of, entries_of, rows_of
 from stillfiles.shapes import is_row, is_shape, reshaped
 from stillfiles.shelves import Folder
+from stored import begun, put, store_of
 from stillfiles.worths import fits, is_name, is_worth
 from things import ANYTHING
 
@@ -44,6 +46,35 @@ ASKED = (
 )
 
 
+def filled():
+    store = store_of()
+    put(store, ("fig", 3))
+    return store
+
+
+# What would be changed by what it takes is asked of a new Store, Writer or Plain each time.
+ASKED_ANEW = (
+    lambda thing: filled().make(thing, (("a", "word", ""),)), lambda thing: filled().make("nut", thing),
+    lambda thing: filled().make("nut", (("a", "word", ""),), rule=thing), lambda thing: filled().writer(thing).stage(),
+    lambda thing: filled().head(thing), lambda thing: filled().done(thing, "zed"),
+    lambda thing: filled().reader(thing).rows(), lambda thing: filled().reader("fruit", at=thing).rows(),
+    lambda thing: filled().reader("fruit", tag=thing).rows(), lambda thing: filled().reader("fruit").rows(where=thing),
+    lambda thing: filled().reader("fruit").plan(thing), lambda thing: filled().writer("ann").begin(thing),
+    lambda thing: begun(filled()).put(thing), lambda thing: begun(filled()).drop(thing),
+    lambda thing: begun(filled()).change(thing, "many", 1), lambda thing: begun(filled()).change((), thing, 1),
+    lambda thing: begun(filled()).change((), "many", thing), lambda thing: begun(filled()).key(thing, 1),
+    lambda thing: begun(filled()).key("many", thing), lambda thing: begun(filled()).reshape(thing),
+    lambda thing: begun(filled()).rerule(thing), lambda thing: begun(filled()).gather(thing),
+    lambda thing: begun(filled()).gather((thing,)), lambda thing: begun(filled()).back(thing),
+    lambda thing: begun(filled()).tag(thing, 1), lambda thing: begun(filled()).tag("new", thing),
+    lambda thing: begun(filled()).untag(thing),
+    lambda thing: Plain(thing).shape(), lambda thing: Plain((("a", "small", 1),), rule=thing).rule(),
+    lambda thing: Plain((("a", "small", 1),)).do(thing), lambda thing: Plain((("a", "small", 1),)).do(("put", thing)),
+    lambda thing: Plain((("a", "small", 1),)).do(("gather",), base=thing),
+    lambda thing: Plain((("a", "small", 1),)).rows(at=thing), lambda thing: Plain((("a", "small", 1),)).rows(where=thing),
+)
+
+
 def told(function, thing):
     """What a function tells of a thing, or the refusal as a text."""
     try:
@@ -56,6 +87,14 @@ class OfAnything(unittest.TestCase):
     def test_it_is_answered_the_same_and_left_as_it_was(self):
         for function in ASKED:
             for thing in (*ANYTHING, *RIGHT):
+                before = copy.deepcopy(thing)
+                first = told(function, thing)
+                self.assertEqual(told(function, thing), first)
+                self.assertEqual(repr(thing), repr(before))
+
+    def test_stores_writers_readers_and_plains(self):
+        for function in ASKED_ANEW:
+            for thing in ANYTHING:
                 before = copy.deepcopy(thing)
                 first = told(function, thing)
                 self.assertEqual(told(function, thing), first)

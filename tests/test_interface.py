@@ -18,6 +18,7 @@ FUNCTIONS = {
                 "rows_of(place, head, number, *, where=(), names=None, by=None)"),
     "planning": ("plan_of(place, head, number, where)",),
     "doings": ("did(place, head, number)",),
+    "meeting": ("met(place, head, work)",),
 }
 # What begins with a class's own name is how it is made, None of one that the interface doesn't tell how to make.
 CLASSES = {
@@ -26,6 +27,26 @@ CLASSES = {
                   "names(*, by=None)", "swap(table, ahead, new)", "pointed(table)", "tables()", "moment()",
                   "wait(many)", "opened()", "steps()", "trouble(step, word)", "__len__()"),
         "Folder": ("Folder(files=())", "read(name)", "has(name)", "names(*, by=None)", "__len__()"),
+    },
+    "plain": {
+        "Plain": ("Plain(columns, *, rule=())", "do(deed, *, base=None)", "rows(*, at=None, where=(), names=None)",
+                  "shape(*, at=None)", "rule()", "__len__()", "__eq__(other)"),
+    },
+    "stores": {
+        "Store": ("Store(*, age=10, let=10)", "shelf()", "make(table, columns, *, rule=())", "tables()", "head(table)",
+                  "done(table, title)", "writer(title)", "reader(table, *, at=None, tag=None, moment=None)", "named()",
+                  "left_over()", "sweep()", "moment()", "wait(many)", "__len__()"),
+    },
+    "writers": {
+        "Writer": ("titled()", "stage()", "work()", "busy()", "begin(table)", "put(rows, *, size=8)", "drop(where)",
+                   "change(where, name, worth)", "key(name, worth)", "reshape(changes)", "rerule(rule)",
+                   "gather(files, *, size=8)", "back(number)", "tag(tag, number)", "untag(tag)",
+                   "let_go(*, keep=3, age=10)", "ready()", "swap()", "commit(*, tries=4, look=None)", "found()",
+                   "leave()", "close()"),
+    },
+    "readers": {
+        "Reader": ("table()", "commit_number()", "ends()", "shape()", "rows(*, where=(), names=None, by=None)",
+                   "plan(where)", "renew()", "close()"),
     },
 }
 

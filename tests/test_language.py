@@ -10,12 +10,12 @@ FOLDER = pathlib.Path(__file__).parent.parent / "stillfiles"
 FILES = {path.stem: path.read_text(encoding="ascii") for path in sorted(FOLDER.rglob("*.py"))}
 TREES = {name: ast.parse(text) for name, text in FILES.items()}
 BUILTINS = """len range enumerate zip min max sum abs sorted reversed int str bool list tuple dict set isinstance ord
-repr any all divmod map iter next ValueError KeyError ArithmeticError""".split()
+repr any all divmod map iter next ValueError KeyError ArithmeticError NotImplemented""".split()
 METHODS = """append clear copy count endswith extend find get index insert isalnum isalpha isdigit islower isspace
 isupper items join keys ljust lower lstrip partition pop remove replace reverse rfind rjust rpartition rsplit rstrip
 setdefault split splitlines startswith strip update upper values zfill isascii removeprefix removesuffix""".split()
 # GeneratorExp and Div are among the rules' bounds, too: lists do in the place of the one, // in that of the other.
-BARRED = (ast.Global, ast.AsyncFunctionDef, ast.Await, ast.GeneratorExp, ast.Div, ast.Match, ast.Set, ast.Try)
+BARRED = (ast.Global, ast.AsyncFunctionDef, ast.Await, ast.GeneratorExp, ast.Div, ast.Match, ast.Set)
 WORDS = r"\b(type|typing|enum|Enum|Flag|Generic|Protocol|ABC|namedtuple|register|mro|elements|open|input|law|eval|exec)\b"
 
 
@@ -58,6 +58,34 @@ class Texts(unittest.TestCase):
 class Trees(unittest.TestCase):
     def test_barred_statements_and_expressions(self):
         self.assertEqual([(name, ast.dump(node)) for name, node in nodes(BARRED)], [])
+
+    def test_just_own_errors_are_caught(self):
+        own = {node.name for node in TREES["errors"].body if isinstance(node, ast.ClassDef)}
+        for name, node in nodes(ast.ExceptHandler):
+            self.assertIn(node.type.id, own, name)
+
+    def test_finally_assigns_nothing_but_plain_values(self):
+        for name, node in nodes(ast.Try):
+            for statement in node.finalbody:
+                self.assertIsInstance(statement, ast.Assign, name)
+                self.assertIsInstance(statement.value, (ast.Constant, ast.Name, ast.Attribute), name)
+
+    def test_what_is_raised_is_made_on_the_spot_or_the_handlers_own(self):
+        handled = [node for _, handler in nodes(ast.ExceptHandler) for node in ast.walk(handler)]
+        for name, node in nodes(ast.Raise):
+            self.assertTrue(isinstance(node.exc, ast.Call) or node.exc is None and node in handled, name)
+
+    def test_no_length_but_that_of_something(self):
+        for name, node in nodes(ast.FunctionDef):
+            if node.name == "__len__":
+                self.assertEqual(node.body[-1].value.func.id, "len", name)
+
+    def test_no_name_is_a_method_and_an_attribute_of_one_class(self):
+        for name, node in nodes(ast.ClassDef):
+            methods = {part.name for part in node.body if isinstance(part, ast.FunctionDef)}
+            stored = {part.attr for part in ast.walk(node) if isinstance(part, ast.Attribute)
+                      and isinstance(part.ctx, ast.Store)}
+            self.assertEqual(methods & stored, set(), (name, node.name))
 
     def test_decorators(self):
         for name, node in nodes((ast.FunctionDef, ast.ClassDef)):
