@@ -32,8 +32,11 @@ def number_then(head, moment):
 def tells_from(head, base):
     """Whether a head tells each number from base to its last one."""
     # Counted, not gone through: by hand the last number may be a very great one.
-    behind = [commit for commit in head[5] if commit[0] > base]
-    return tells(head, base) and len(behind) == last_number(head) - base
+    return tells(head, base) and len(commits_behind(head, base)) == last_number(head) - base
+
+
+def commits_behind(head, base):
+    return [commit for commit in head[5] if commit[0] > base]
 
 
 def shape_of(head, commit):
@@ -79,3 +82,7 @@ def entries_at(place, commit):
     for row in lists_of(place, commit):
         entries.extend(place.read(row[0])[1])
     return tuple(entries)
+
+
+def data_entries(entries):
+    return [entry for entry in entries if entry[0] == "data"]

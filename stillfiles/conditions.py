@@ -1,23 +1,29 @@
 """Tests and conditions, and which worths meet a test (promise 7)."""
 
 from stillfiles.errors import NoColumn, NoCond
+from stillfiles.wholes import is_from
 from stillfiles.worths import are_of_one_sort, is_name, is_worth
 
 WORDS = ("is", "below", "from")
 TESTS_MOST = 4
 
 
-def is_test(thing):
-    if not isinstance(thing, tuple) or len(thing) != 3:
+def are_tests(thing):
+    """Whether a thing is a condition, but for what its tests have as columns."""
+    if not isinstance(thing, tuple) or len(thing) > TESTS_MOST:
         return False
-    name, word, worth = thing
-    return is_name(name) and word in WORDS and is_worth(worth)
+    if not all([isinstance(test, tuple) and len(test) == 3 for test in thing]):
+        return False
+    return all([word in WORDS and is_worth(worth) for _, word, worth in thing])
 
 
 def is_condition(thing):
-    if not isinstance(thing, tuple) or len(thing) > TESTS_MOST:
-        return False
-    return all([is_test(test) for test in thing])
+    """Whether a thing is a condition as it is handed in, by names of columns."""
+    return are_tests(thing) and all([is_name(test[0]) for test in thing])
+
+
+def is_bound_condition(thing):
+    return are_tests(thing) and all([is_from(1, test[0]) for test in thing])
 
 
 def bound(shape, where):

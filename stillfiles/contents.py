@@ -5,24 +5,18 @@ from stillfiles.filenames import LETTERS, names_file
 from stillfiles.heads import HeadForm, is_head_top
 from stillfiles.parts import is_part
 from stillfiles.shapes import COLUMNS_MOST
+from stillfiles.tuples import is_some
 from stillfiles.wholes import is_from
-from stillfiles.worths import is_worth
+from stillfiles.worths import are_worths, is_worth
 
 
 def is_file(thing, *, letter=None):
     return names_file(LETTERS if letter is None else letter, thing)
 
 
-def is_some(thing):
-    """Whether a thing is a tuple of one or more."""
-    return isinstance(thing, tuple) and len(thing) > 0
-
-
 def is_data_row(thing):
     """Whether a thing is a row of some shape, by its length and worths alone."""
-    if not isinstance(thing, tuple) or not 1 <= len(thing) <= COLUMNS_MOST:
-        return False
-    return all([is_worth(worth) for worth in thing])
+    return are_worths(thing) and 1 <= len(thing) <= COLUMNS_MOST
 
 
 def is_data_top(shape, rule, part):

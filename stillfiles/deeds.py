@@ -4,7 +4,7 @@ Each is refused ahead of its first step.
 """
 
 from stillfiles.checks import check_rows, check_tag, fitting_column
-from stillfiles.commits import entries_at, tagged_number, told_commit
+from stillfiles.commits import data_entries, entries_at, tagged_number, told_commit
 from stillfiles.conditions import bound
 from stillfiles.errors import NoFile, NoName
 from stillfiles.filenames import stands_in
@@ -72,8 +72,9 @@ def check_gathered(files, datas):
 
 def gather_work(shelf, base, files, size):
     entries = entries_at(shelf, base.commit_then)
-    check_gathered(files, {entry[1]: True for entry in entries if entry[0] == "data"})
-    gathered = [entry for entry in entries if entry[0] == "data" and entry[1] in files]
+    datas = data_entries(entries)
+    check_gathered(files, {entry[1]: True for entry in datas})
+    gathered = [entry for entry in datas if entry[1] in files]
     rows = []
     for entry in gathered:
         rows.extend([row for _, row in read_rows(shelf, base.head_then, base.commit_then, entry, entries)])

@@ -1,10 +1,11 @@
 """Rows of lists, with their whole spans (promise 12)."""
 
+from stillfiles.commits import data_entries
 from stillfiles.spans import greatest_of, least_of
 
 
 def list_row(file, entries):
-    datas = [entry for entry in entries if entry[0] == "data"]
+    datas = data_entries(entries)
     spans = {}
     for entry in datas:
         for span in entry[7]:

@@ -1,6 +1,6 @@
 """Commits that meet a work: which of them touch it, and by what (promises 27 and 28)."""
 
-from stillfiles.commits import last_number, shape_of, tells_from, told_commit
+from stillfiles.commits import commits_behind, data_entries, shape_of, tells_from
 from stillfiles.conditions import meets
 from stillfiles.doings import came_and_went
 from stillfiles.errors import TooLate
@@ -16,25 +16,32 @@ SHAPED_BY = {"reshape": "shape", "rerule": "rule"}
 
 def put_entries(commit, came):
     """The data entries that a commit put, not by gather."""
-    return [entry for entry in came if entry[0] == "data" and commit[1] != "gather"]
+    return [] if commit[1] == "gather" else data_entries(came)
 
 
 def key_entries(came):
     return [entry for entry in came if entry[0] == "key"]
 
 
+def key_can(entry, test):
+    """Whether a row that a key takes away can meet a test: just a test on the key's own column tells."""
+    return test[0] != entry[3] or meets(test, entry[4])
+
+
 def key_bar(entry, tests):
-    """The number of the first test on a key's column that its worth doesn't meet, None where it meets each."""
+    """The number of the first test that a row with a key's worth can't meet, None where it can meet each."""
     for k, test in enumerate(tests):
-        if test[0] == entry[3] and not meets(test, entry[4]):
+        if not key_can(entry, test):
             return k
     return None
 
 
 def columns_of(work):
-    """The numbers of the columns that a work of drop, change or key needs."""
+    """The numbers of the columns that a work needs: drop, change and key need some."""
     if work[WORD] == "key":
         return [number for _, number, _ in work[KEYS]]
+    if work[WORD] not in MARKING:
+        return []
     numbers = [test[0] for test in work[READS]]
     return [*numbers, work[MORE]] if work[WORD] == "change" else numbers
 
@@ -94,11 +101,10 @@ def met(place, head, work):
     if not tells_from(head, base):
         raise TooLate(base)
     rows = []
-    for number in range(base + 1, last_number(head) + 1):
-        commit = told_commit(head, number)
-        came, went = came_and_went(place, head, number)
+    for commit in commits_behind(head, base):
+        came, went = came_and_went(place, head, commit[0])
         found = touches(head, work, commit, came, went)
         if found:
-            return ("clash", number, *found[0])
-        rows.append((number, shows_of(head, work, commit, came)))
+            return ("clash", commit[0], *found[0])
+        rows.append((commit[0], shows_of(head, work, commit, came)))
     return ("led", tuple(rows))

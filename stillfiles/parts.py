@@ -3,7 +3,7 @@
 from stillfiles.errors import NoColumn, NoFit, NoRule
 from stillfiles.shapes import column_called
 from stillfiles.wholes import all_unlike, is_from, is_whole, is_within
-from stillfiles.worths import NUMBER_KINDS, TEXT_KINDS, is_name, is_worth
+from stillfiles.worths import NUMBER_KINDS, TEXT_KINDS, are_worths, is_name
 
 FIELDS_MOST = 3
 # The greatest k of each word; `same` has none.
@@ -41,9 +41,7 @@ def is_bound_rule(thing):
 
 
 def is_part(thing):
-    if not isinstance(thing, tuple) or len(thing) > FIELDS_MOST:
-        return False
-    return all([is_worth(worth) for worth in thing])
+    return are_worths(thing) and len(thing) <= FIELDS_MOST
 
 
 def way_fits(way, kind):

@@ -1,12 +1,8 @@
 """Rows written as data files by parts, and marks for rows (promise 24)."""
 
 from stillfiles.parts import part_of
-from stillfiles.spans import span_of
+from stillfiles.spans import spans_of
 from stillfiles.worths import rising
-
-
-def spans_of(shape, rows):
-    return tuple([span_of(column[0], [row[at] for row in rows]) for at, column in enumerate(shape)])
 
 
 def put_files(shelf, base, rows, size):

@@ -65,8 +65,16 @@ def is_change(thing):
     return word == "widen" and many == 3 and is_kind(thing[2])
 
 
+def are_so_many(changes):
+    return isinstance(changes, tuple) and len(changes) <= CHANGES_MOST
+
+
+def are_changes(thing):
+    return are_so_many(thing) and all([is_change(change) for change in thing])
+
+
 def check_changes(changes):
-    if not isinstance(changes, tuple) or len(changes) > CHANGES_MOST:
+    if not are_so_many(changes):
         raise NoChange(-1)
     for place, change in enumerate(changes):
         if not is_change(change):

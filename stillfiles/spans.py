@@ -17,6 +17,11 @@ def span_of(number, worths):
     return (number, least_of(worths), greatest_of(worths), len(blanks))
 
 
+def spans_of(shape, rows):
+    """The spans of all columns of a shape, in their order."""
+    return tuple([span_of(column[0], [row[at] for row in rows]) for at, column in enumerate(shape)])
+
+
 def may_meet(span, test):
     """Of a span, or of a whole one: it begins with the same four."""
     least, greatest, blanks = span[1], span[2], span[3]

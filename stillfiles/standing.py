@@ -59,3 +59,10 @@ def found_rows(place, head, commit, tests):
         rows = read_rows(place, head, commit, entry, entries)
         found.append((entry[1], [(at, row) for at, row in rows if row_meets(shape, tests, row)]))
     return found
+
+
+def is_met(place, head, commit, entry, entries, tests):
+    """Whether a row of a data entry's file that stands meets all tests, which are bound by the shape of a commit."""
+    shape = shape_of(head, commit)
+    rows = read_rows(place, head, commit, entry, entries)
+    return any([row_meets(shape, tests, row) for _, row in rows])

@@ -98,6 +98,11 @@ class Store:
         commits.extend([reader.commit_row() for reader in self._open_readers()])
         return by_numbers([*heads, *files_told(self._shelf, commits)])
 
+    def starts(self):
+        """The files that are named by no other one's content: heads pointed at, lists of open Readers' commits."""
+        heads = [self._shelf.pointed(table) for table in self.tables()]
+        return [*heads, *[reader.commit_row()[5] for reader in self._open_readers()]]
+
     def left_over(self):
         named = {file: True for file in self.named()}
         return tuple([file for file in self._shelf.names() if file not in named])

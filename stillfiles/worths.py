@@ -27,6 +27,11 @@ def is_worth(thing):
     return fits("whole", thing) or fits("word", thing)
 
 
+def are_worths(thing):
+    """Whether a thing is a tuple of worths, of any many."""
+    return isinstance(thing, tuple) and all([is_worth(worth) for worth in thing])
+
+
 def is_kind(thing):
     return thing in NUMBER_KINDS or thing in TEXT_KINDS
 

@@ -62,7 +62,9 @@ class Trees(unittest.TestCase):
     def test_just_own_errors_are_caught(self):
         own = {node.name for node in TREES["errors"].body if isinstance(node, ast.ClassDef)}
         for name, node in nodes(ast.ExceptHandler):
-            self.assertIn(node.type.id, own, name)
+            caught = node.type.elts if isinstance(node.type, ast.Tuple) else [node.type]
+            for error in caught:
+                self.assertIn(error.id, own, name)
 
     def test_finally_assigns_nothing_but_plain_values(self):
         for name, node in nodes(ast.Try):
