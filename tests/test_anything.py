@@ -6,11 +6,21 @@ import unittest
 from right_contents import DATA, HEAD, LIST, RIGHT, paths_of, at_place, with_place
 from hands import Hand
 from openings import shelf_of
+from meetings import WORKS
+from stillfiles.changes import changes_of
 from stillfiles.conditions import bound
 from stillfiles.contents import is_content, is_file
 from stillfiles.contenttexts import read_content, show_content
+from stillfiles.desk import Desk
 from stillfiles.doings import did
 from stillfiles.errors import Missing, StillError
+from stillfiles.faults import faults_of
+from stillfiles.findings import finding_holds
+from stillfiles.gathering import small_ones
+from stillfiles.historychecks import history_holds
+from stillfiles.meetchecks import clash_holds, is_work, led_holds
+from stillfiles.paperchecks import chain_holds, none_holds, row_holds
+from stillfiles.papers import chain_of, none_paper, row_paper
 from stillfiles.parts import bound_rule
 from stillfiles.plain import Plain
 from stillfiles.planning import plan_of
@@ -43,6 +53,18 @@ ASKED = (
     lambda thing: did(PLACE, TABLE, thing), lambda thing: away(PLACE, TABLE, thing, "d1"),
     lambda thing: rows_of(PLACE, TABLE, thing), lambda thing: rows_of(PLACE, TABLE, 1, where=thing),
     lambda thing: plan_of(PLACE, TABLE, thing, ()), lambda thing: plan_of(PLACE, TABLE, 1, thing),
+    is_work, finding_holds, lambda thing: small_ones(PLACE, TABLE, thing), lambda thing: faults_of(PLACE, thing),
+    lambda thing: led_holds(PLACE, TABLE, WORKS["drop"], thing), lambda thing: clash_holds(PLACE, TABLE, WORKS["drop"],
+                                                                                           thing),
+    lambda thing: changes_of(PLACE, TABLE, thing, 1), lambda thing: changes_of(PLACE, TABLE, 0, thing),
+    lambda thing: row_paper(PLACE, TABLE, thing, (1, "a")), lambda thing: row_paper(PLACE, TABLE, 1, thing),
+    lambda thing: none_paper(PLACE, TABLE, thing, ()), lambda thing: none_paper(PLACE, TABLE, 1, thing),
+    lambda thing: row_holds(PLACE, TABLE, 1, (1, "a"), thing), lambda thing: none_holds(PLACE, TABLE, 1, (), thing),
+    lambda thing: history_holds((("a", "small", 1),), ((0, 1, ("read", ()), ()),), thing),
+    lambda thing: finding_holds(("row", thing, "h1", 1, (1, "a"), thing)),
+    lambda thing: finding_holds(("can", thing, thing, thing)),
+    lambda thing: faults_of(Folder((("h1", thing),)), "h1"), lambda thing: faults_of(Folder((("h1", TABLE),
+                                                                                             ("s4", thing))), "h1"),
 )
 
 
@@ -68,11 +90,18 @@ ASKED_ANEW = (
     lambda thing: begun(filled()).gather((thing,)), lambda thing: begun(filled()).back(thing),
     lambda thing: begun(filled()).tag(thing, 1), lambda thing: begun(filled()).tag("new", thing),
     lambda thing: begun(filled()).untag(thing),
+    lambda thing: chain_of(filled(), thing), lambda thing: chain_holds(filled(), "s1", thing),
+    lambda thing: Desk().say(thing),
     lambda thing: Plain(thing).shape(), lambda thing: Plain((("a", "small", 1),), rule=thing).rule(),
     lambda thing: Plain((("a", "small", 1),)).do(thing), lambda thing: Plain((("a", "small", 1),)).do(("put", thing)),
     lambda thing: Plain((("a", "small", 1),)).do(("gather",), base=thing),
-    lambda thing: Plain((("a", "small", 1),)).rows(at=thing), lambda thing: Plain((("a", "small", 1),)).rows(where=thing),
+    lambda thing: Plain((("a", "small", 1),)).rows(at=thing), lambda thing: Plain((("a", "small", 1),
+                                                                                   )).rows(where=thing),
 )
+
+
+# Each thing with the text that shows it as it is at first.
+SHOWN = [(thing, repr(thing)) for thing in (*ANYTHING, *RIGHT)]
 
 
 def told(function, thing):
@@ -86,19 +115,17 @@ def told(function, thing):
 class OfAnything(unittest.TestCase):
     def test_it_is_answered_the_same_and_left_as_it_was(self):
         for function in ASKED:
-            for thing in (*ANYTHING, *RIGHT):
-                before = copy.deepcopy(thing)
+            for thing, before in SHOWN:
                 first = told(function, thing)
                 self.assertEqual(told(function, thing), first)
-                self.assertEqual(repr(thing), repr(before))
+                self.assertEqual(repr(thing), before)
 
     def test_stores_writers_readers_and_plains(self):
         for function in ASKED_ANEW:
-            for thing in ANYTHING:
-                before = copy.deepcopy(thing)
+            for thing, before in SHOWN[:len(ANYTHING)]:
                 first = told(function, thing)
                 self.assertEqual(told(function, thing), first)
-                self.assertEqual(repr(thing), repr(before))
+                self.assertEqual(repr(thing), before)
 
     def test_contents_with_lists_and_dicts_in_them_are_left_as_they_were(self):
         for content in (DATA, LIST, HEAD):
@@ -123,7 +150,8 @@ class Truths(unittest.TestCase):
             for word in ("is", "below", "from"):
                 self.assertEqual(told(lambda thing: bound(SHAPE, thing), (("a", word, truth),)), "('NoCond', {})")
             for word in ("range", "rest"):
-                self.assertEqual(told(lambda thing: bound_rule(SHAPE, thing), (("a", (word, truth)),)), "('NoRule', {})")
+                self.assertEqual(told(lambda thing: bound_rule(SHAPE, thing), (("a", (word, truth)),)),
+                                 "('NoRule', {})")
             for content in RIGHT:
                 for path in paths_of(content):
                     self.assertIs(is_content(with_place(content, path, truth)), False)

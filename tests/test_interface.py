@@ -19,6 +19,16 @@ FUNCTIONS = {
     "planning": ("plan_of(place, head, number, where)",),
     "doings": ("did(place, head, number)",),
     "meeting": ("met(place, head, work)",),
+    "meetchecks": ("is_work(thing)", "led_holds(place, head, work, thing)", "clash_holds(place, head, work, thing)"),
+    "gathering": ("small_ones(place, head, number, *, below=8)",),
+    "changes": ("changes_of(place, head, one, other)", "put_on(rows, changes)"),
+    "papers": ("row_paper(place, head, number, row)", "none_paper(place, head, number, where)", "chain_of(store, name)"),
+    "paperchecks": ("row_holds(place, head, number, row, thing)", "none_holds(place, head, number, where, thing)",
+                    "chain_holds(store, name, thing)"),
+    "histories": ("history_paper(columns, claims)",),
+    "historychecks": ("history_holds(columns, claims, thing)",),
+    "faults": ("faults_of(place, file)",),
+    "findings": ("finding_holds(thing)",),
 }
 # What begins with a class's own name is how it is made, None of one that the interface doesn't tell how to make.
 CLASSES = {
@@ -47,6 +57,9 @@ CLASSES = {
     "readers": {
         "Reader": ("table()", "commit_number()", "ends()", "shape()", "rows(*, where=(), names=None, by=None)",
                    "plan(where)", "renew()", "close()"),
+    },
+    "desk": {
+        "Desk": ("Desk()", "say(row)", "store()", "__len__()"),
     },
 }
 
